@@ -41,7 +41,6 @@ func TestWhatIsSealedIsOpened(t *testing.T) {
 				t.Fatal(ideal, n, got, e)
 			}
 			clear(got)
-			clear(bytes.Clone(sealed))
 			if got, _ := b.Open(key, nonce, sealed); !bytes.Equal(got, keep) {
 				t.Fatal(ideal, n, "the box hands itself out")
 			}
