@@ -11,11 +11,6 @@ const (
 	lengthBytes = 8
 )
 
-// starts are the words that a digest begins with (FIPS 180-4, 5.3.3).
-var starts = [8]uint32{
-	0x6a09e667, 0xbb67ae85, 0x3c6ef372, 0xa54ff53a, 0x510e527f, 0x9b05688c, 0x1f83d9ab, 0x5be0cd19,
-}
-
 // rounds are the words of the 64 rounds (FIPS 180-4, 4.2.2).
 var rounds = [64]uint32{
 	0x428a2f98, 0x71374491, 0xb5c0fbcf, 0xe9b5dba5, 0x3956c25b, 0x59f111f1, 0x923f82a4, 0xab1c5ed5,
@@ -36,8 +31,11 @@ type digest struct {
 	total uint64
 }
 
+// begin is a digest of nothing yet: its words are those of FIPS 180-4, 5.3.3.
 func begin() digest {
-	return digest{words: starts}
+	return digest{words: [8]uint32{
+		0x6a09e667, 0xbb67ae85, 0x3c6ef372, 0xa54ff53a, 0x510e527f, 0x9b05688c, 0x1f83d9ab, 0x5be0cd19,
+	}}
 }
 
 func (d *digest) putAll(parts ...[]byte) {

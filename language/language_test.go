@@ -7,7 +7,6 @@ import (
 	"go/format"
 	"go/parser"
 	"go/token"
-	"io/fs"
 	"os"
 	"path/filepath"
 	"slices"
@@ -23,35 +22,37 @@ var library = []string{
 
 const mostLines = 60
 
+// packages are the program's folders.
+var packages = strings.Fields("api ask box cells chacha control device disk entry filter group hash index item keys names net own pack pad poly proof relay seal store sync vector world writer")
+
 // sources are the parsed files of the program, without its tests.
 func sources(t *testing.T) (*token.FileSet, map[string]*ast.File) {
 	t.Helper()
 	set, files := token.NewFileSet(), map[string]*ast.File{}
-	err := filepath.WalkDir("..", func(path string, d fs.DirEntry, err error) error {
-		if err != nil {
-			return err
+	for _, folder := range packages {
+		paths, err := filepath.Glob(filepath.Join("..", folder, "*"))
+		if err != nil || len(paths) == 0 {
+			t.Fatal(folder, err)
 		}
-		if d.IsDir() && (d.Name() == ".git" || d.Name() == "sharedtests") {
-			return filepath.SkipDir
+		for _, path := range paths {
+			if strings.HasSuffix(path, "_test.go") {
+				continue
+			}
+			if !strings.HasSuffix(path, ".go") {
+				t.Errorf("%s isn't a Go file", path)
+				continue
+			}
+			files[path], err = parser.ParseFile(set, path, nil, parser.ParseComments)
+			if err != nil {
+				t.Fatal(err)
+			}
 		}
-		if !strings.HasSuffix(path, ".go") || strings.HasSuffix(path, "_test.go") {
-			return nil
-		}
-		file, err := parser.ParseFile(set, path, nil, parser.ParseComments)
-		files[path] = file
-		return err
-	})
-	if err != nil {
-		t.Fatal(err)
 	}
 	return set, files
 }
 
 func TestImportsAreAllowed(t *testing.T) {
 	_, files := sources(t)
-	if len(files) < 26 {
-		t.Fatalf("%d files", len(files))
-	}
 	for path, file := range files {
 		for _, spec := range file.Imports {
 			name := strings.Trim(spec.Path.Value, `"`)
