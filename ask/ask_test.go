@@ -210,16 +210,16 @@ func TestTheMostThatAReplyHas(t *testing.T) {
 		l[i/5].Header.Knows[i%5+1] = 128
 	}
 	r := Reply{Kind: 2, Pieces: l}
-	if total(l) != mostTold || !FormedReply(r) {
-		t.Fatal(total(l))
+	if total(l) != mostTold || !FormedReply(r) || len(fitting(l)) != 7 {
+		t.Fatal(total(l), len(fitting(l)))
 	}
 	b, e := ReplyBytes(r)
 	if got, f := ParseReply(b); e != api.OK || f != api.OK || !sameReply(got, r) || len(b) != 16384 {
 		t.Error(e, f, len(b))
 	}
 	l[6].Header.Time = 128
-	if total(l) != mostTold+1 || FormedReply(r) {
-		t.Error(total(l))
+	if total(l) != mostTold+1 || FormedReply(r) || len(fitting(l)) != 6 {
+		t.Error(total(l), len(fitting(l)))
 	}
 }
 
@@ -233,8 +233,8 @@ func TestHowRepliesArePacked(t *testing.T) {
 		t.Error("the 1 fills a power of two", b)
 	}
 	b, _ = ReplyBytes(Reply{ID: 1 << 42, Kind: 3, Err: 11, Heads: vector.Vector{1, 2, 3, 4, 5, 6}})
-	if len(b) != 32 || b[16] != 1 {
-		t.Error("and then the next one", b)
+	if r, e := ParseReply(b); len(b) != 32 || b[16] != 1 || e != api.OK || r.ID != 1<<42 {
+		t.Error("and then the next one", b, e)
 	}
 	p := one()
 	stub := index.Piece{Header: p.Header}

@@ -105,6 +105,9 @@ func TestAppendAndClear(t *testing.T) {
 	if e := l.Append([]byte("new"), note(4)); e != api.OK || !isAt(open(t, d, 1, 5), 5, "new", note(4)) {
 		t.Error(e)
 	}
+	if e := l.Append([]byte("!"), note(5)); e != api.OK || !isAt(l, 6, "new!", note(5)) || !isAt(open(t, d, 1, 5), 6, "new!", note(5)) {
+		t.Error("a single byte", e)
+	}
 	if b, _ := d.Read(0); !bytes.Equal(b, make([]byte, 64)) {
 		t.Error("a sector of others was written")
 	}

@@ -143,7 +143,14 @@ func both(t *testing.T, f func(t *testing.T, ideal bool)) {
 func TestOpenRefuses(t *testing.T) {
 	x := box.New(false, api.Hash{})
 	for _, me := range []int{0, -1, 7, math.MaxInt} {
-		if d, e := Open(x, Config{Me: me}, disk.New(1)); e != api.ErrArg || d != nil {
+		for _, sectors := range []int{1, 100} {
+			if d, e := Open(x, Config{Me: me}, disk.New(sectors)); e != api.ErrArg || d != nil {
+				t.Error(me, e)
+			}
+		}
+	}
+	for me := 1; me <= api.MaxMembers; me++ {
+		if d, e := Open(x, Config{Me: me}, disk.New(100)); e != api.OK || d.Me() != me {
 			t.Error(me, e)
 		}
 	}
@@ -175,11 +182,19 @@ func TestOpenRefusesRecords(t *testing.T) {
 	torn, stub := p, p
 	torn.Body = torn.Body[1:]
 	stub.Body = nil
+	broken := forged(t, c, c.devices[0], 2, put("a", "v"), nil)
+	stubbed := packed(record{kind: ofEntry, piece: index.Piece{Header: broken.Header}})
+	unlinked, _ := c.devices[0].Piece(1, 2)
+	unlinked.Header.Prev[0]++
 	alarm := packed(record{kind: ofAlarm, alarm: proof.Proof{Kind: 3, Writer: 1, Floor: 2}})
 	life := packed(record{kind: ofLife, lives: 3})
 	for i, l := range [][][]byte{
 		{nil}, {{0}}, {{7}}, {{9, 9, 9}}, {append(slices.Clone(life), 0)}, {life, life}, {alarm, alarm}, {create, create},
 		{packed(record{kind: ofEntry, piece: torn})}, {packed(record{kind: ofEntry, piece: stub})}, {packed(record{kind: ofEntry, piece: last})},
+		{create, packed(record{kind: ofEntry, piece: unlinked})}, {byHand(func(o *pack.Out) { o.Num(ofBody); o.Num(0); o.Num(1); o.Text([]byte("x")) })},
+		{create, byHand(func(o *pack.Out) { o.Num(ofBody); o.Num(1); o.Num(0); o.Text([]byte("x")) })},
+		append(kept(c.devices[0]), stubbed, byHand(func(o *pack.Out) { o.Num(ofBody); o.Num(2); o.Num(1); o.Text([]byte("x")) })),
+		append(kept(c.devices[0]), byHand(func(o *pack.Out) { o.Num(ofEntry); o.Text(entry.Bytes(broken.Header)); o.Text([]byte("x")) })),
 		{packed(record{kind: ofBody, piece: last})}, {create, packed(record{kind: ofBody, piece: p})}, {create[:len(create)-1]},
 		{byHand(func(o *pack.Out) { o.Num(ofFilter); o.Flag(true); o.Num(1); o.Text([]byte("a")) })},
 		{byHand(func(o *pack.Out) { o.Num(ofFilter); o.Flag(false); o.Num(2); o.Text([]byte("b")); o.Text([]byte("a")) })},
@@ -192,6 +207,27 @@ func TestOpenRefusesRecords(t *testing.T) {
 		c.ok(s.Add(l...))
 		if v, e := Open(c.box, config(0), d); e != api.ErrForm || v != nil {
 			t.Error(i, e)
+		}
+	}
+}
+
+// kept is the entries that a device holds, as records.
+func kept(d *Device) [][]byte {
+	return slices.DeleteFunc(d.store.Records(), func(b []byte) bool { return b[0] != ofEntry })
+}
+
+func TestTheLastWriter(t *testing.T) {
+	c := met(t, true, 2)
+	d := c.devices[0]
+	p := forged(t, c, d, 6, put("a", "v"), nil)
+	c.ok(d.Take(index.Piece{Header: p.Header}))
+	c.ok(d.Take(p))
+	for _, d := range []*Device{d, c.reopen(0)} {
+		if q, e := d.Piece(6, 1); e != api.OK || !entry.Same(q.Header, p.Header) || !slices.Equal(q.Body, p.Body) {
+			t.Error(e)
+		}
+		if len(d.Rows()) != 0 || len(d.Items()) != 0 || len(d.Pending()) != 0 {
+			t.Error("what one says that is no member counts")
 		}
 	}
 }
@@ -935,6 +971,9 @@ func TestADeviceThatIsOver(t *testing.T) {
 		if k.got != k.want {
 			t.Errorf("%d: %d, want %d", i, k.got, k.want)
 		}
+	}
+	if n, _ := d.Begin(); n != 0 {
+		t.Error("a life beside an error", n)
 	}
 	if state(d) != before {
 		t.Error("something has changed")

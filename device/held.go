@@ -21,26 +21,26 @@ import (
 // noRow is of an entry that isn't an item's.
 const noRow = -1
 
-// text is what a device has of an entry beside its header: its body, if it is there, and which row is its.
-type text struct {
+// content is what a device has of an entry beside its header: its body, if it is there, and which row is its.
+type content struct {
 	body []byte
 	row  int
 }
 
 // held is all that a device holds.
 type held struct {
-	seed    api.Hash
-	chains  [api.MaxMembers]writer.Chain
-	texts   [api.MaxMembers][]text
-	rows    []item.Row
-	time    uint64
-	ring    proof.Ring
-	group   group.Group
-	filter  filter.Filter
-	alarmed bool
-	alarm   proof.Proof
-	floors  [relays]vector.Vector
-	lives   uint64
+	seed     api.Hash
+	chains   [api.MaxMembers]writer.Chain
+	contents [api.MaxMembers][]content
+	rows     []item.Row
+	time     uint64
+	ring     proof.Ring
+	group    group.Group
+	filter   filter.Filter
+	alarmed  bool
+	alarm    proof.Proof
+	floors   [relays]vector.Vector
+	lives    uint64
 }
 
 // hold holds what a record says, when it is made, taken, or read again; it tells whether a device can have kept it.
@@ -77,14 +77,14 @@ func (d *Device) holdEntry(p index.Piece) bool {
 	if d.held.chains[h.Writer-1].Add(h) != api.OK {
 		return false
 	}
-	t := text{body: bytes.Clone(p.Body), row: noRow}
+	t := content{body: bytes.Clone(p.Body), row: noRow}
 	if h.Control {
 		d.obey(p)
 	} else {
 		t.row = len(d.held.rows)
 		d.held.rows = append(d.held.rows, d.rowOf(p))
 	}
-	d.held.texts[h.Writer-1] = append(d.held.texts[h.Writer-1], t)
+	d.held.contents[h.Writer-1] = append(d.held.contents[h.Writer-1], t)
 	d.held.time = max(d.held.time, h.Time)
 	return true
 }
@@ -158,7 +158,7 @@ func (d *Device) lacks(h entry.Header) bool {
 	if h.Writer < 1 || h.Writer > api.MaxMembers {
 		return false
 	}
-	l := d.held.texts[h.Writer-1]
+	l := d.held.contents[h.Writer-1]
 	return h.Seq >= 1 && h.Seq <= uint64(len(l)) && l[h.Seq-1].row != noRow && len(l[h.Seq-1].body) == 0
 }
 
@@ -173,7 +173,7 @@ func (d *Device) holdBody(p index.Piece) bool {
 	if !index.Whole(whole) {
 		return false
 	}
-	t := &d.held.texts[i][seq-1]
+	t := &d.held.contents[i][seq-1]
 	t.body = bytes.Clone(p.Body)
 	d.held.rows[t.row] = d.rowOf(whole)
 	return true

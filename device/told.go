@@ -43,7 +43,7 @@ func (d *Device) Piece(writer int, seq uint64) (index.Piece, api.Errno) {
 	if !ok {
 		return index.Piece{}, api.ErrNone
 	}
-	return index.Piece{Header: h, Body: bytes.Clone(d.held.texts[writer-1][seq-1].body)}, api.OK
+	return index.Piece{Header: h, Body: bytes.Clone(d.held.contents[writer-1][seq-1].body)}, api.OK
 }
 
 // Rows are the rows that count, as they were taken.

@@ -54,7 +54,6 @@ func (d *digest) put(b []byte) {
 			return
 		}
 		d.turn(d.held[:])
-		d.count = 0
 	}
 	for len(b) >= blockBytes {
 		d.turn(b[:blockBytes])

@@ -94,6 +94,7 @@ func proofs(t *testing.T, x *box.Box) []Proof {
 		{Kind: 3, Writer: 6, Floor: api.MaxSeq, Head: 0},
 		{Kind: 4, A: a, Wanted: []api.Token{{5}}},
 		{Kind: 4, A: a, Wanted: []api.Token{{1}, {6}, {7}}},
+		{Kind: 4, A: a, Wanted: []api.Token{{1}, {2}, {3}, {4}, {5}, {6}, {7}, {8}}},
 		{Kind: 4, A: a},
 		{Kind: 4, A: made(t, x, 1, 1, func(h *entry.Header) { h.Tokens = nil })},
 	}
@@ -205,6 +206,16 @@ func TestHowProofsArePacked(t *testing.T) {
 	want = slices.Concat([]byte{1}, n, raw, n, raw)
 	if b, e := Bytes(Proof{Kind: 1, A: a, B: a}); e != api.OK || !bytes.Equal(b, want) {
 		t.Error(b, e)
+	}
+	bad := bytes.Clone(raw)
+	bad[0] = 9
+	for i, b := range [][]byte{
+		slices.Concat([]byte{1}, n, bad, n, raw), slices.Concat([]byte{1}, n, raw, n, bad), slices.Concat([]byte{2}, n, bad, n, bad),
+		slices.Concat([]byte{4}, n, bad, []byte{0}), {1, 0, 0}, {4, 0, 0},
+	} {
+		if p, e := Parse(b); e != api.ErrForm || !same(p, Proof{}) {
+			t.Error(i, "a header that is none", e)
+		}
 	}
 	for _, b := range [][]byte{nil, {0}, {5}, {3, 1, 3, 3}, {3, 0, 5, 3}, {3, 7, 5, 3}, {3, 1, 5}, {131, 0, 1, 5, 3}, {3, 1, 129, 128, 64, 3}} {
 		if p, e := Parse(b); e != api.ErrForm || !same(p, Proof{}) {

@@ -76,6 +76,9 @@ func TestAddAndOpenAgain(t *testing.T) {
 	if !same(s, want) || !same(open(t, d), want) || d.Loose() != 0 {
 		t.Error("opened again")
 	}
+	if e := s.Add(nil); e != api.OK || !same(s, append(want, nil)) || s.Room() != 512-11-203 {
+		t.Error("a record of no bytes", e)
+	}
 }
 
 func TestAddRefuses(t *testing.T) {

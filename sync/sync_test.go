@@ -534,6 +534,44 @@ func TestAFullDevice(t *testing.T) {
 	ok(t, n.tell(t, 0, ask.Reply{ID: q.ID, Kind: 2, Heads: vector.Vector{2}}))
 }
 
+func TestAPieceWithoutRoomEndsAPull(t *testing.T) {
+	n := pulling(t, all)
+	ok(t, n.Compact())
+	q := n.asked(t, 0)
+	first := n.entryOf(t, 2, nil, "x", strings.Repeat("v", 500))
+	for range 7000 {
+		n.SetFilter(all)
+		if e := n.Change(put("a", "v")); e != api.OK {
+			break
+		}
+	}
+	ok(t, n.SetFilter(all))
+	if e := n.tell(t, 0, ask.Reply{ID: q.ID, Kind: 2, Heads: vector.Vector{2, 1}, Pieces: []index.Piece{first}}); e != api.ErrFull || n.Floor(0) != (vector.Vector{2}) {
+		t.Error(e, n.Floor(0))
+	}
+	ok(t, n.Lift(0, vector.Vector{3}))
+}
+
+func TestOwnEntriesWithoutABodyArentPushed(t *testing.T) {
+	n := nodes(t, 1)[0]
+	again := &node{box: n.box, disk: disk.New(1000)}
+	again.open(t, 1)
+	ok(t, n.Change(put("a", "v")))
+	first, _ := n.Piece(1, 1)
+	second, _ := n.Piece(1, 2)
+	ok(t, again.Take(first))
+	ok(t, again.Take(index.Piece{Header: second.Header}))
+	q := again.asked(t, 0)
+	ok(t, again.tell(t, 0, ask.Reply{ID: q.ID, Kind: 1, Heads: vector.Vector{2}}))
+	if q := again.asked(t, 0); q.Kind != 2 {
+		t.Error(q)
+	}
+	ok(t, again.Take(second))
+	if q := again.asked(t, 0); q.Kind != 1 || q.Piece.Header.Seq != 2 {
+		t.Error(q)
+	}
+}
+
 func TestBehindAnAlarmWhatIsShownIsToldStill(t *testing.T) {
 	n := pulling(t, all)
 	q, r := n.asked(t, 0), n.asked(t, 1)
