@@ -2,6 +2,7 @@ package ask
 
 import (
 	"bytes"
+	"slices"
 
 	"jalousie/api"
 	"jalousie/entry"
@@ -17,7 +18,7 @@ func FormedReply(r Reply) bool {
 	if r.Kind < push || r.Kind > fetch || r.Err < api.OK || r.Err > api.ErrSpent {
 		return false
 	}
-	if !numbersFormed(r.Heads) || len(r.Pieces) > api.MaxBatch {
+	if slices.Max(r.Heads[:]) > api.MaxSeq || len(r.Pieces) > api.MaxBatch {
 		return false
 	}
 	told := 0
