@@ -38,8 +38,10 @@ func sources(t *testing.T) (*token.FileSet, map[string]*ast.File) {
 			if strings.HasSuffix(path, "_test.go") {
 				continue
 			}
+			if slices.Contains([]string{".s", ".S", ".c", ".h", ".syso"}, filepath.Ext(path)) {
+				t.Errorf("%s isn't Go", path)
+			}
 			if !strings.HasSuffix(path, ".go") {
-				t.Errorf("%s isn't a Go file", path)
 				continue
 			}
 			files[path], err = parser.ParseFile(set, path, nil, parser.ParseComments)
